@@ -39,11 +39,17 @@ def take_rows(size, cuts, takes):
     return [(age, [farthest(size, cuts, text, end) for end in places]) for text, age in takes]
 
 
-def next_reach(places, rows, before, age):
-    """The reach at an age, of the takes' rows and the reach at the age less 1."""
-    where = {end: at for at, end in enumerate(places)}
-    told = [before[where[far]] for far in before]
+def clean_row(places, rows, age):
+    """For each end the farthest one to which some take no older than the age is clean, of the takes' rows."""
+    told = list(places)
     for take_age, row in rows:
         if take_age <= age:
             told = [max(far, other) for far, other in zip(told, row)]
     return told
+
+
+def next_reach(places, rows, before, age):
+    """The reach at an age, of the takes' rows and the reach at the age less 1."""
+    where = {end: at for at, end in enumerate(places)}
+    clean = clean_row(places, rows, age)
+    return [max(far, before[where[middle]]) for far, middle in zip(clean, before)]

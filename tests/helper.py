@@ -1,6 +1,8 @@
 """What the tests share: strict comparison, and slow answers straight from the definitions."""
 
+import collections
 import copy
+import functools
 import itertools
 import random
 import unittest
@@ -19,6 +21,8 @@ class Case(unittest.TestCase):
         first = copy.deepcopy(told)
         self.assertTold(handed, things)
         self.assertTold(ask(*handed), first)
+        lists = lists_in(handed) + lists_in(told) + lists_in(ask(*handed))
+        self.assertEqual(len(set(id(one) for one in lists)), len(lists), "a list is there twice")
         spoil(told)
         self.assertTold(handed, things)
         self.assertTold(ask(*handed), first)
@@ -44,9 +48,21 @@ def kinds(thing):
 
 
 def spoil(thing):
+    """Changes every list in a thing, the inner ones first."""
+    if isinstance(thing, (list, tuple)):
+        for part in thing:
+            spoil(part)
     if isinstance(thing, list):
         thing.reverse()
         thing.append("spoilt")
+
+
+def lists_in(thing):
+    """All lists in a thing, itself too."""
+    if not isinstance(thing, (list, tuple)):
+        return []
+    within = [inner for part in thing for inner in lists_in(part)]
+    return within + [thing] if isinstance(thing, list) else within
 
 
 def all_bars(size):
@@ -81,6 +97,41 @@ def drawn_shelves(many, seed):
         yield size, cuts, takes
 
 
+def joined_shelves(many, seed):
+    """Shelves of few cuts and takes, of which most have clean makes and no clean take."""
+    chance = random.Random(seed)
+    for at in range(many):
+        size = chance.randint(2, 5)
+        cuts = sorted(chance.sample(range(1, size), chance.randint(1, min(3, size - 1))))
+        ends = [0] + cuts + [size]
+        all_bars = ["", "", ""]
+        for first, behind in zip(ends, ends[1:]):
+            clean = chance.sample(range(3), chance.choice((1, 1, 2)))
+            for number in range(3):
+                all_bars[number] += ("o" if number in clean else "x") * (behind - first)
+        yield size, cuts, [(bars, chance.choice((0, 0, 0, 1, 2))) for bars in all_bars]
+
+
+def wide_shelves():
+    """Shelves of 40 bars with 20 takes."""
+    told = []
+    for seed, (clean, oldest, step) in enumerate(itertools.product((0.2, 0.5, 0.8), (0, 4, 60), (1, 2))):
+        chance = random.Random(seed)
+        takes = []
+        for number in range(20):
+            bars = "".join("o" if chance.random() < clean else "x" for bar in range(40))
+            takes.append((bars, chance.randint(0, oldest)))
+        told.append((40, list(range(1, 40, step)), takes))
+    return told
+
+
+def stretches(many, age, wide=1):
+    """A shelf whose song needs that many takes, each clean in one stretch."""
+    size = many * wide
+    takes = [("x" * at * wide + "o" * wide + "x" * (many - at - 1) * wide, age) for at in range(many)]
+    return size, [at * wide for at in range(1, many)], takes
+
+
 def all_made(cuts, takes, age):
     """For each age from 0 to that one, the bars of all makes no older, by joining all with all."""
     told = []
@@ -103,3 +154,162 @@ def slow_reach(size, cuts, made):
         clean = [far for far in ends if far >= end and any("x" not in bars[end:far] for bars in made)]
         told.append(max(clean + [end]))
     return told
+
+
+def chain_left(many, cuts, number=0):
+    """A make of so many takes, each joined behind all those ahead of it."""
+    make = number
+    for at in range(many - 1):
+        make = (cuts[at % len(cuts)], make, number)
+    return make
+
+
+def chain_right(many, cuts, number=0):
+    """A make of so many takes, each joined ahead of all those behind it."""
+    make = number
+    for at in range(many - 1):
+        make = (cuts[at % len(cuts)], number, make)
+    return make
+
+
+def balanced(many, cuts, number=0):
+    """A make of so many takes, of two halves all through."""
+    if many == 1:
+        return number
+    return (cuts[many % len(cuts)], balanced(many // 2, cuts, number), balanced(many - many // 2, cuts, number))
+
+
+def slow_made(takes, make):
+    """Points 6 and 7, word for word."""
+    if isinstance(make, int):
+        return takes[make]
+    place, left, right = make
+    one, other = slow_made(takes, left), slow_made(takes, right)
+    return one[0][:place] + other[0][place:], max(one[1], other[1]) + 1
+
+
+def all_makes(cuts, takes, most):
+    """For each number of joinings up to the most, all makes with so many, each with its bars and age."""
+    told = [[(number, bars, age) for number, (bars, age) in enumerate(takes)]]
+    for many in range(1, most + 1):
+        now = []
+        for ahead in range(many):
+            for place in cuts:
+                for left, one, old in told[ahead]:
+                    for right, other, older in told[many - 1 - ahead]:
+                        now.append(((place, left, right), one[:place] + other[place:], max(old, older) + 1))
+        told.append(now)
+    return told
+
+
+def slow_fewest(size, makes, age):
+    """Point 13, word for word, of all makes."""
+    for many, some in enumerate(makes):
+        if any(bars == "o" * size and old <= age for make, bars, old in some):
+            return many
+    return None
+
+
+def slow_best(size, makes):
+    """The best makes in their order, word for word, of all makes."""
+    clean = [(old, many, make) for many, some in enumerate(makes) for make, bars, old in some if bars == "o" * size]
+    least = min([old for old, many, make in clean], default=None)
+    fewest = min([many for old, many, make in clean if old == least], default=None)
+    best = [make for old, many, make in clean if (old, many) == (least, fewest)]
+    return sorted(best, key=functools.cmp_to_key(compare))
+
+
+def compare(one, other):
+    """Point 14: below 0 where the one goes first."""
+    if isinstance(one, int):
+        return one - other
+    return one[0] - other[0] or compare(one[1], other[1]) or compare(one[2], other[2])
+
+
+def slow_count(size, cuts, takes, age):
+    """The fewest joinings of clean makes no older than the age, and how many have so few, each cutting where it must."""
+    ends = [0] + cuts + [size]
+
+    @functools.cache
+    def count(first, behind, age):
+        told = collections.Counter()
+        told[0] = sum(1 for bars, old in takes if old <= age and "x" not in bars[first:behind])
+        if age > 0:
+            for middle in ends:
+                if first < middle < behind:
+                    for one, lefts in count(first, middle, age - 1).items():
+                        for other, rights in count(middle, behind, age - 1).items():
+                            told[one + other + 1] += lefts * rights
+        return +told
+
+    told = count(0, size, age)
+    return (min(told), told[min(told)]) if told else (None, 0)
+
+
+def all_rows(ends):
+    """All rows of ends."""
+    rows = itertools.product(*[[far for far in ends if far >= end] for end in ends])
+    return [list(row) for row in rows if list(row) == sorted(row)]
+
+
+def is_row(ends, row):
+    """Point 15."""
+    return (
+        len(row) == len(ends)
+        and all(far in ends for far in row)
+        and all(far >= end for far, end in zip(row, ends))
+        and all(row[at] >= row[at - 1] for at in range(1, len(row)))
+    )
+
+
+def short_of_takes(ends, takes, age, row):
+    """Whether a row has less than some take no older than the age is clean."""
+    for bars, old in takes:
+        if old <= age:
+            for end, far in zip(ends, row):
+                if far < max(other for other in ends if other >= end and "x" not in bars[end:other]):
+                    return True
+    return False
+
+
+def short_of_two(ends, row, first, second):
+    """Whether a row has less than two others, the second behind the first."""
+    return any(far < second[ends.index(middle)] for far, middle in zip(row, first))
+
+
+def young_faults(size, cuts, takes, age, paper):
+    """The parts of point 16 that a paper breaks."""
+    ends = [0] + cuts + [size]
+    if len(paper) != age or not all(is_row(ends, row) for row in paper):
+        return {"form"}
+    faults = set()
+    for now, row in enumerate(paper):
+        if short_of_takes(ends, takes, now, row):
+            faults.add("a")
+        if now > 0 and short_of_two(ends, row, paper[now - 1], paper[now - 1]):
+            faults.add("b")
+    if age > 0 and paper[age - 1][0] >= size:
+        faults.add("c")
+    return faults
+
+
+def few_faults(size, cuts, takes, age, many, paper):
+    """The parts of point 17 that a paper breaks."""
+    ends = [0] + cuts + [size]
+    if len(paper) != age + 1 or any(len(table) != many for table in paper):
+        return {"form"}
+    if not all(is_row(ends, row) for table in paper for row in table):
+        return {"form"}
+    faults = set()
+    for now, table in enumerate(paper):
+        for t, row in enumerate(table, 1):
+            if short_of_takes(ends, takes, now, row):
+                faults.add("a")
+            if t > 1 and any(far < ahead for far, ahead in zip(row, table[t - 2])):
+                faults.add("b")
+            for u in range(1, t if now > 0 else 1):
+                if short_of_two(ends, row, paper[now - 1][u - 1], paper[now - 1][t - u - 1]):
+                    faults.add("c")
+    if many > 0 and paper[age][many - 1][0] >= size:
+        faults.add("d")
+    return faults

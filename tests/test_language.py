@@ -23,6 +23,14 @@ NODES = set(
     "Not USub UAdd And Or Eq NotEq Lt LtE Gt GtE Is IsNot In NotIn".split()
 )
 METHODS = {"__init__", "__eq__", "__repr__", "__str__", "__len__"}
+# Methods of Python's own values; `sort` and those of bytes are left out, for nothing here needs them.
+CALLED = set(
+    "append clear copy count endswith extend find get index insert isalnum isalpha isdigit islower isspace isupper "
+    "items join keys ljust lower lstrip partition pop remove replace reverse rfind rjust rpartition rsplit rstrip "
+    "setdefault split splitlines startswith strip update upper values zfill bit_length title capitalize swapcase "
+    "casefold center expandtabs removeprefix removesuffix rindex isascii isdecimal isnumeric istitle isidentifier "
+    "isprintable".split()
+)
 WORDS = re.compile(
     r"\b(type|typing|typing_extensions|enum|Enum|IntEnum|StrEnum|Flag|IntFlag|Generic|Protocol|ABC|ABCMeta|namedtuple"
     r"|NamedTuple|TypedDict|TYPE_CHECKING|abstractmethod)\b|dataclass|overload|contextmanager"
@@ -109,6 +117,33 @@ class Forms(unittest.TestCase):
             self.assertNotIsInstance(node.value, (float, complex), (path, node.lineno))
             if isinstance(node.value, str):
                 self.assertNotIn("%", node.value, (path, node.lineno))
+
+    def test_methods_and_values_of_objects(self):
+        methods, values = {}, {}
+        for path, node in nodes(ast.ClassDef):
+            for part in node.body:
+                if isinstance(part, ast.FunctionDef):
+                    methods[part.name] = path
+        for path, node in nodes(ast.Attribute):
+            if isinstance(node.ctx, ast.Store):
+                values[node.attr] = path
+        self.assertEqual(set(methods) & set(values), set())
+        for path, tree in trees():
+            called = set(id(node.func) for node in ast.walk(tree) if isinstance(node, ast.Call))
+            for node in ast.walk(tree):
+                if isinstance(node, ast.Attribute) and id(node) in called:
+                    self.assertIn(node.attr, CALLED | set(methods), (path, node.lineno))
+                elif isinstance(node, ast.Attribute):
+                    self.assertIn(node.attr, values, (path, node.lineno))
+
+    def test_errors_are_raised_on_the_spot(self):
+        errors = set(node.name for path, node in nodes(ast.ClassDef) if path.stem == "errors")
+        for path, node in nodes(ast.Raise):
+            self.assertIsInstance(node.exc, ast.Call, (path, node.lineno))
+            self.assertIn(node.exc.func.id, errors, (path, node.lineno))
+        for path, node in nodes(ast.ExceptHandler):
+            for name in node.type.elts if isinstance(node.type, ast.Tuple) else [node.type]:
+                self.assertIn(name.id, errors | {"KeyError", "ZeroDivisionError"}, (path, node.lineno))
 
     def test_is_stands_beside_none_true_and_false_alone(self):
         for path, node in nodes(ast.Compare):

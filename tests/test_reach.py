@@ -2,19 +2,12 @@ import unittest
 
 from hissroom.ends import bar_of, farthest
 from hissroom.reach import least_age, reach
-from tests.helper import Case, all_made, drawn_shelves, slow_reach, small_shelves
+from tests.helper import Case, all_made, drawn_shelves, slow_reach, small_shelves, stretches
 
 ALL_PLACES = list(range(1, 40))
 STRIPES = [("ox" * 20, 60), ("xo" * 20, 60)]
 # How often 1 must be doubled to come to that many stretches or more.
 DOUBLINGS = {1: 0, 2: 1, 3: 2, 4: 2, 5: 3, 7: 3, 8: 3, 9: 4, 16: 4, 17: 5, 20: 5}
-
-
-def stretches(many, age, wide=1):
-    """A shelf whose song needs that many takes, each clean in one stretch."""
-    size = many * wide
-    takes = [("x" * at * wide + "o" * wide + "x" * (many - at - 1) * wide, age) for at in range(many)]
-    return size, [at * wide for at in range(1, many)], takes
 
 
 class Reach(Case):
