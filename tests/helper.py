@@ -5,7 +5,11 @@ import copy
 import functools
 import itertools
 import random
+import re
 import unittest
+
+from hissroom import errors
+from hissroom.room import Room
 
 
 class Case(unittest.TestCase):
@@ -39,6 +43,16 @@ class Case(unittest.TestCase):
             ask(*handed)
         self.assertIs(type(caught.exception), error)
         self.assertTold(handed, things)
+
+    def assertLeft(self, room, error, ask, *things):
+        """Raises just that class, and leaves the room as it was, in all that can be asked."""
+        before = asked(room)
+        self.assertRefuses(error, ask, *things)
+        self.assertTold(asked(room), before)
+
+    def assertStands(self, room, deeds, ahead=()):
+        """The room is as the slow one behind these deeds, with those to do again."""
+        self.assertTold(asked(room)[:len(SLOWLY)], asked_slowly(room.size(), list(deeds), list(ahead)))
 
 
 def kinds(thing):
@@ -313,3 +327,175 @@ def few_faults(size, cuts, takes, age, many, paper):
     if many > 0 and paper[age][many - 1][0] >= size:
         faults.add("d")
     return faults
+
+
+def room_with(size, *deeds):
+    """A room in which these deeds were done."""
+    room = Room(size)
+    for row in deeds:
+        room.deed(row)
+    return room
+
+
+def by_method(room, row):
+    """Does a deed by the method of its name."""
+    return getattr(room, row[0])(*row[1:])
+
+
+def by_deed(room, row):
+    return room.deed(row)
+
+
+def told_or_refused(ask, *things):
+    """What is told, or the class of the refusal and its fields."""
+    try:
+        return ("told", ask(*things))
+    except errors.NoWay as way:
+        return ("refused", "NoWay", way.first, way.behind)
+    except errors.HissError as refusal:
+        return ("refused", type(refusal).__name__)
+
+
+SLOWLY = ("size", "deeds", "ahead", "names", "cuts", "takes", "bars", "age", "parts", "source")
+
+
+def asked(room):
+    """All that can be asked of a room; first what the slow room tells too."""
+    names, bars = room.names(), range(room.size())
+    told = [
+        room.size(),
+        room.deeds(),
+        room.ahead(),
+        names,
+        room.cuts(),
+        room.takes(),
+        [room.bars(name) for name in names],
+        [room.age(name) for name in names],
+        [room.parts(name) for name in names],
+        [[room.source(name, bar) for bar in bars] for name in names],
+    ]
+    return told + [room.answer(), room.least(), room.few(), room.after([]), told_or_refused(room.coming)]
+
+
+def slow_stand(size, deeds):
+    """Takes and shut places behind deeds that nothing refuses; a bar is one list, shared by all takes that have it."""
+    takes, shut = {}, set()
+    for row in deeds:
+        if row[0] == "put":
+            word, name, bars, age = row
+            takes[name] = {"bars": [([name, sign], 0) for sign in bars], "age": age, "parts": None}
+        elif row[0] == "join":
+            word, name, left, right, place = row
+            bars = takes[left]["bars"][:place] + takes[right]["bars"][place:]
+            takes[name] = {"bars": [(bar, copies + 1) for bar, copies in bars], "parts": (left, right, place)}
+        elif row[0] == "found":
+            word, name, bar, sign = row
+            takes[name]["bars"][bar][0][1] = sign
+        elif row[0] == "aged":
+            takes[row[1]]["age"] = row[2]
+        elif row[0] == "drop":
+            del takes[row[1]]
+        elif row[0] == "free":
+            shut.discard(row[1])
+        else:
+            shut.add(row[1])
+    return takes, shut
+
+
+def slow_age(takes, name):
+    if takes[name]["parts"] is None:
+        return takes[name]["age"]
+    left, right, place = takes[name]["parts"]
+    return max(slow_age(takes, left), slow_age(takes, right)) + 1
+
+
+def asked_slowly(size, deeds, ahead):
+    """What `asked` should tell first, all deeds done anew."""
+    takes, shut = slow_stand(size, deeds)
+    bars = ["".join(bar[1] for bar, copies in take["bars"]) for take in takes.values()]
+    ages = [slow_age(takes, name) for name in takes]
+    return [
+        size,
+        deeds,
+        ahead,
+        list(takes),
+        [place for place in range(1, size) if place not in shut],
+        list(zip(bars, ages)),
+        bars,
+        ages,
+        [take["parts"] for take in takes.values()],
+        [[(bar[0], copies) for bar, copies in take["bars"]] for take in takes.values()],
+    ]
+
+
+def slow_refusal(size, deeds, row):
+    """Point 24, word for word: what a deed refuses behind these, the first that holds; or None."""
+    takes, shut = slow_stand(size, deeds)
+    word, things = row[0], row[1:]
+    new = [
+        ("BadName", lambda: not re.fullmatch("[a-z]{1,8}", things[0])),
+        ("Taken", lambda: things[0] in takes),
+        ("Full", lambda: len(takes) == 20),
+    ]
+    there = [("NoTake", lambda: things[0] not in takes)]
+    place = [("BadPlace", lambda: things[-1] not in range(1, size))]
+    age = [("BadAge", lambda: things[-1] not in range(21))]
+    table = {
+        "put": new + [("BadBars", lambda: not re.fullmatch("[ox]{%d}" % size, things[1]))] + age,
+        "join": new
+        + [("NoTake", lambda: things[1] not in takes), ("NoTake", lambda: things[2] not in takes)]
+        + place
+        + [("Shut", lambda: things[3] in shut)],
+        "found": there
+        + [("BadBar", lambda: things[1] not in range(size)), ("BadBars", lambda: things[2] not in ("o", "x"))],
+        "aged": there + [("Joined", lambda: takes[things[0]]["parts"] is not None)] + age,
+        "drop": there
+        + [("Needed", lambda: any(take["parts"] and things[0] in take["parts"][:2] for take in takes.values()))],
+        "free": place,
+        "shut": place,
+    }
+    return next((name for name, holds in table[word] if holds()), None)
+
+
+def drawn_deed(chance, room):
+    """A deed by chance, now and then one that is refused."""
+    size = room.size()
+    wrong = chance.random() < 0.2
+    there = room.names() or ["none"]
+    name = chance.choice(there if chance.random() < 0.95 else ["nobody"])
+    fresh = chance.choice(["a", "b", "c", "dd", "eeee", "hhhhhhhh"] + (["", "A", "ninethree"] if wrong else []))
+    bars = "".join(chance.choice("oox") for bar in range(size + (chance.choice((-1, 1)) if wrong else 0)))
+    age = chance.choice((-1, 21)) if wrong else chance.choice((0, 0, 0, 1, 2, 20))
+    place = chance.choice((0, size, -1)) if wrong else chance.randint(1, max(size - 1, 1))
+    bar = chance.choice((-1, size)) if wrong else chance.randrange(size)
+    return chance.choice([
+        ("put", fresh, bars, age),
+        ("put", fresh, bars, age),
+        ("join", fresh, name, chance.choice(there), place),
+        ("join", fresh, name, chance.choice(there), place),
+        ("found", name, bar, chance.choice(("o", "x"))),
+        ("aged", name, age),
+        ("drop", name),
+        ("free", place),
+        ("shut", place),
+    ])
+
+
+def drawn_rooms(many, seed, deeds=25):
+    """Rooms by chance, the same ones each time, with some deeds undone in each."""
+    chance = random.Random(seed)
+    for at in range(many):
+        room = Room(chance.choice((1, 2, 3, 4, 4, 5)))
+        for count in range(deeds):
+            told_or_refused(room.deed, drawn_deed(chance, room))
+        for count in range(min(chance.randint(0, 3), len(room.deeds()))):
+            room.undo()
+        yield room
+
+
+def shelf_rooms(shelves):
+    """For each shelf of first takes a room with it; a take's name is the letter of its number."""
+    for size, cuts, takes in shelves:
+        deeds = [("put", "abcdefghijklmnopqrst"[at], bars, age) for at, (bars, age) in enumerate(takes)]
+        deeds += [("shut", place) for place in range(1, size) if place not in cuts]
+        yield room_with(size, *deeds)

@@ -25,6 +25,39 @@ FUNCTIONS = {
         "good_few(size, cuts, takes, age, many, paper)",
         "good_answer(size, cuts, takes, told)",
     ),
+    "sheets": ("sheet(room)", "room_of(text)"),
+}
+CLASSES = {
+    "room": (
+        "Room(size)",
+        "put(self, name, bars, age)",
+        "join(self, name, left, right, place)",
+        "found(self, name, bar, sign)",
+        "aged(self, name, age)",
+        "drop(self, name)",
+        "free(self, place)",
+        "shut(self, place)",
+        "deed(self, row)",
+        "undo(self)",
+        "redo(self)",
+        "deeds(self)",
+        "ahead(self)",
+        "size(self)",
+        "names(self)",
+        "bars(self, name)",
+        "age(self, name)",
+        "parts(self, name)",
+        "source(self, name, bar)",
+        "cuts(self)",
+        "takes(self)",
+        "answer(self)",
+        "least(self)",
+        "few(self)",
+        "after(self, deeds)",
+        "coming(self)",
+        "twin(self)",
+    ),
+    "course": ("Course(room)", "step(self, name)", "steps(self)", "over(self)"),
 }
 
 
@@ -35,6 +68,14 @@ class Interface(unittest.TestCase):
             for written in functions:
                 function = getattr(module, written.split("(")[0])
                 self.assertEqual(function.__name__ + str(inspect.signature(function)), written)
+
+    def test_classes_and_their_methods(self):
+        for name, (made, *methods) in CLASSES.items():
+            kind = getattr(importlib.import_module(f"hissroom.{name}"), made.split("(")[0])
+            self.assertEqual(kind.__name__ + str(inspect.signature(kind)), made)
+            for written in methods:
+                method = getattr(kind, written.split("(")[0])
+                self.assertEqual(method.__name__ + str(inspect.signature(method)), written)
 
 
 if __name__ == "__main__":
